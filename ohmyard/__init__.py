@@ -1,0 +1,1 @@
+"""Ohmyard: nets of wires, told exactly by fractions."""
