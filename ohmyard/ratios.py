@@ -2,6 +2,9 @@
 
 from ohmyard.errors import NoNumber
 
+NOUGHT = (0, 1)
+ONE = (1, 1)
+
 
 def is_whole(thing):
     # To Python a truth is an int, too.
@@ -57,7 +60,7 @@ def under(one, other):
 
 
 def total(some):
-    so_far = fraction(0)
+    so_far = NOUGHT
     for one in some:
         so_far = plus(so_far, one)
     return so_far
