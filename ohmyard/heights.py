@@ -1,8 +1,8 @@
 """The equations of a net, and its answer: the heights of its points and the streams of its rows."""
 
-from ohmyard.errors import Floats, NoPoint, Ring
+from ohmyard.errors import Floats, Ring
 from ohmyard.hanging import floating, ring_sum, rings
-from ohmyard.nets import is_number_below
+from ohmyard.nets import refuse_points
 from ohmyard.ratios import NOUGHT, ONE, minus, over, plus
 from ohmyard.rows import fall_of
 from ohmyard.solving import multiples, solved
@@ -80,8 +80,7 @@ class Answer:
         return list(self.flows)
 
     def fall(self, a, b):
-        if not is_number_below(a, len(self.levels)) or not is_number_below(b, len(self.levels)):
-            raise NoPoint("a fall is told between two points of the net")
+        refuse_points([a, b], len(self.levels))
         return minus(self.levels[a], self.levels[b])
 
     def paper(self):

@@ -1,6 +1,6 @@
 """Nets: points that are numbered from 0, and rows between them."""
 
-from ohmyard.errors import NoPoint, NoRow, NoSize, TooMany
+from ohmyard.errors import Held, NoPoint, NoRow, NoSize, TooMany
 from ohmyard.ratios import is_fraction, is_whole
 from ohmyard.rows import is_piece_size, row_of
 
@@ -25,8 +25,7 @@ class Net:
 
     def add(self, row):
         told = row.told()
-        if not is_number_below(told[1], self.point_count) or not is_number_below(told[2], self.point_count):
-            raise NoPoint("a row leads from a point of the net to a point of the net")
+        refuse_points([told[1], told[2]], self.point_count)
         refuse_size(told[0], told[3])
         if len(self.kept) >= MOST_ROWS:
             raise TooMany("a net has at most forty rows")
@@ -34,8 +33,7 @@ class Net:
         return len(self.kept) - 1
 
     def change(self, k, size):
-        if not is_number_below(k, len(self.kept)):
-            raise NoRow("the net has no row of this number")
+        refuse_number(k, len(self.kept))
         old = self.kept[k]
         refuse_size(old[0], size)
         self.kept[k] = (old[0], old[1], old[2], size)
@@ -56,8 +54,24 @@ def is_number_below(thing, bound):
     return is_whole(thing) and thing >= 0 and thing < bound
 
 
+def refuse_points(some, many):
+    if not all([is_number_below(point, many) for point in some]):
+        raise NoPoint("the net has no such point")
+
+
+def refuse_number(k, count):
+    if not is_number_below(k, count):
+        raise NoRow("the net has no row of this number")
+
+
 def refuse_size(word, size):
     if not is_fraction(size):
         raise NoSize("a size is a fraction")
     if word == "piece" and not is_piece_size(size):
         raise NoSize("a piece's size is above nought")
+
+
+def refuse_holds(net):
+    for number, row in enumerate(net.rows()):
+        if row.word() == "hold":
+            raise Held(number)

@@ -73,3 +73,41 @@ class Nets:
             for number, way in ring:
                 streams[number] += way * amount
         return [told(one) for one in streams]
+
+
+def solution(matrix, right):
+    """The unknowns of as many equations, by Fractions: written apart from the program, to hold it against."""
+    lines = [[Fraction(one) for one in row] + [Fraction(side)] for row, side in zip(matrix, right)]
+    for column in range(len(lines)):
+        place = next(place for place in range(column, len(lines)) if lines[place][column] != 0)
+        lines[column], lines[place] = lines[place], lines[column]
+        upper = [one / lines[column][column] for one in lines[column]]
+        lines = [upper if place == column else [one - line[column] * above for one, above in zip(line, upper)]
+                 for place, line in enumerate(lines)]
+    return [line[-1] for line in lines]
+
+
+def rests_at(net, heights):
+    """What goes from each point less what comes to it, in a net without holds, by heights that are Fractions."""
+    rests = [Fraction(0)] * net.many()
+    for word, start, goal, size in net.told():
+        stream = (heights[start] - heights[goal]) / Fraction(*size) if word == "piece" else Fraction(*size)
+        rests[start] += stream
+        rests[goal] -= stream
+    return rests
+
+
+def levelled(net, ends, heights):
+    """The heights of all points, by Fractions, where at each point that is no end as much goes as comes."""
+    given = dict(zip(ends, heights))
+    inner = [point for point in range(net.many()) if point not in given]
+    matrix = [[Fraction(0)] * len(inner) for point in inner]
+    for place, point in enumerate(inner):
+        raised = [Fraction(0)] * net.many()
+        raised[point] = Fraction(1)
+        pieces = net_of(net.many(), [row for row in net.told() if row[0] == "piece"])
+        for line, other in enumerate(inner):
+            matrix[line][place] = rests_at(pieces, raised)[other]
+    rests = rests_at(net, [given.get(point, Fraction(0)) for point in range(net.many())])
+    known = dict(zip(inner, solution(matrix, [-rests[point] for point in inner])))
+    return [given[point] if point in given else known[point] for point in range(net.many())]
