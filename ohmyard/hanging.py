@@ -22,10 +22,14 @@ def marks_of(net):
     marks = list(range(net.many()))
     for row in net.rows():
         if row.joins():
-            kept = marks[row.start]
-            lost = marks[row.goal]
-            marks = [kept if mark == lost else mark for mark in marks]
+            marks = joined(marks, row)
     return marks
+
+
+def joined(marks, row):
+    kept = marks[row.start]
+    lost = marks[row.goal]
+    return [kept if mark == lost else mark for mark in marks]
 
 
 def rings(net, words=None):

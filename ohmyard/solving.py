@@ -45,6 +45,13 @@ def weight(matrix):
     return fraction(end["sign"] * end["pivot"], bottom)
 
 
+def reduced(matrix, count):
+    # The first rows, so many, clear as many first columns of the rows behind them, and leave with these columns.
+    rows = [in_wholes(row) for row in matrix]
+    end = eliminated([row[0] for row in rows], count)
+    return [over_pivot(left[count:], end["pivot"] * row[1]) for left, row in zip(end["rows"][count:], rows[count:])]
+
+
 def in_wholes(some):
     bottom = 1
     for one in some:

@@ -6,7 +6,7 @@ from ohmyard.heights import enter_piece, enter_push
 from ohmyard.nets import Net, refuse_holds, refuse_points
 from ohmyard.ratios import NOUGHT, ONE, is_whole, minus, over, times, total
 from ohmyard.rows import Piece, Push
-from ohmyard.solving import solved
+from ohmyard.solving import reduced, solved
 
 
 class Table:
@@ -32,17 +32,9 @@ class Table:
         if not is_whole(point) or point not in self.places or len(self.places) == 1:
             raise NoPoint("an end is taken away of several")
         place = self.places.index(point)
-        upper = self.lines[place]
-        if upper[place] == NOUGHT:
+        if self.lines[place][place] == NOUGHT:
             raise Floats([point])
-        others = [other for other in range(len(self.places)) if other != place]
-        lines = []
-        arrivals = []
-        for other in others:
-            share = over(self.lines[other][place], upper[place])
-            lines.append([less_share(self.lines[other][column], share, upper[column]) for column in others])
-            arrivals.append(less_share(self.arrivals[other], share, self.arrivals[place]))
-        return Table([self.places[other] for other in others], lines, arrivals)
+        return narrowed(self, [end for end in self.places if end != point])
 
     def net(self):
         made = Net(len(self.places))
@@ -60,26 +52,31 @@ def along(line, heights):
     return total([times(number, height) for number, height in zip(line, heights)])
 
 
-def less_share(own, share, other):
-    return minus(own, times(share, other))
+def narrowed(table, ends):
+    inner = [end for end in table.places if end not in ends]
+    order = [table.places.index(point) for point in inner + ends]
+    # What comes stands as a column more, so that it is reckoned along with the matrix.
+    lines = [line + [table.arrivals[place]] for line, place in zip(picked(table.lines, order), order)]
+    left = reduced(lines, len(inner))
+    return Table(ends, [line[:-1] for line in left], [line[-1] for line in left])
+
+
+def picked(matrix, places):
+    return [[matrix[line][column] for column in places] for line in places]
 
 
 def table_of(net, ends):
     refuse_ends(net, ends)
-    inner = inner_points(net, ends)
-    table = table_of_all(net, ends + inner)
-    for point in inner:
-        table = table.taken(point)
-    return table
+    return narrowed(table_of_all(net), ends)
 
 
 def inner_heights(net, ends, heights):
     refuse_ends(net, ends)
-    inner = inner_points(net, ends)
+    inner = [point for point in range(net.many()) if point not in ends]
     levels = [NOUGHT] * net.many()
     for point, height in zip(ends, heights):
         levels[point] = height
-    table = table_of_all(net, list(range(net.many())))
+    table = table_of_all(net)
     # So far the inner points stand at nought: what is lacking there, their own heights have to make up for.
     lacking = table.brought(levels)
     right = [minus(NOUGHT, lacking[point]) for point in inner]
@@ -100,10 +97,6 @@ def refuse_ends(net, ends):
         raise Floats(loose)
 
 
-def inner_points(net, ends):
-    return [point for point in range(net.many()) if point not in ends]
-
-
 def loose_points(net, ends):
     loose = []
     for group in groups(net):
@@ -112,16 +105,13 @@ def loose_points(net, ends):
     return sorted(loose)
 
 
-def table_of_all(net, order):
-    matrix = [[NOUGHT] * net.many() for point in order]
-    comes = [NOUGHT] * net.many()
+def table_of_all(net):
+    many = net.many()
+    matrix = [[NOUGHT] * many for point in range(many)]
+    comes = [NOUGHT] * many
     for row in net.rows():
         if row.word() == "piece":
             enter_piece(matrix, row)
         else:
             enter_push(comes, row)
-    return Table(order, picked(matrix, order), [comes[point] for point in order])
-
-
-def picked(matrix, places):
-    return [[matrix[line][column] for column in places] for line in places]
+    return Table(list(range(many)), matrix, comes)

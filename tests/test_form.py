@@ -33,6 +33,11 @@ METHODS = """append clear copy count endswith extend find get index insert isaln
 isupper items join keys ljust lower lstrip partition pop remove replace reverse rfind rjust rpartition rsplit rstrip
 setdefault split splitlines startswith strip update upper values zfill bit_length""".split()
 
+WALKED = ["zip", "enumerate", "reversed", "range", "items", "keys", "values"]
+WALKING = ["list", "tuple", "dict", "sorted", "sum", "any", "all", "enumerate", "zip", "min", "max"]
+
+CHANGING = ["append", "clear", "extend", "insert", "pop", "remove", "reverse", "setdefault", "update", "add"]
+
 TOP = (ast.ImportFrom, ast.Assign, ast.FunctionDef, ast.ClassDef)
 UNDERSCORED = ["__init__", "__eq__", "__repr__", "__str__", "__len__"]
 NO_VALUES = """items keys values pop update append clear extend insert remove reverse setdefault sort args encode
@@ -52,7 +57,11 @@ def tree(path):
 
 
 def found(path, kinds):
-    return [node for node in ast.walk(tree(path)) if isinstance(node, kinds)]
+    return found_in(tree(path), kinds)
+
+
+def found_in(whole, kinds):
+    return [node for node in ast.walk(whole) if isinstance(node, kinds)]
 
 
 def bound_names(path):
@@ -85,6 +94,22 @@ def methods_and_values():
             if isinstance(node.ctx, ast.Store):
                 values.append(node.attr)
     return (set(methods), set(values))
+
+
+def called(node, names):
+    """Whether a node calls one of these by its name, or a method of this name."""
+    if not isinstance(node, ast.Call):
+        return False
+    return getattr(node.func, "id", None) in names or getattr(node.func, "attr", None) in names
+
+
+def walked_at_once(whole):
+    """The things that a loop or a call of Python's own walks on the spot."""
+    walked = [node.iter for node in found_in(whole, (ast.For, ast.comprehension))]
+    for node in found_in(whole, ast.Call):
+        if called(node, WALKING):
+            walked += node.args if called(node, ["zip", "enumerate"]) else node.args[:1]
+    return walked
 
 
 def is_docstring(node):
@@ -229,6 +254,36 @@ class Form(unittest.TestCase):
             self.assertNotEqual(free, [], drawn)
             for module in free:
                 del drawn[module]
+
+    def test_walked_at_once(self):
+        for path in files():
+            whole = tree(path)
+            walked = walked_at_once(whole)
+            for node in found_in(whole, ast.Call):
+                if called(node, WALKED):
+                    self.assertTrue(any(node is other for other in walked), at(path, node))
+
+    def test_what_a_loop_walks_is_not_changed_in_it(self):
+        for path in files():
+            for loop in found(path, ast.For):
+                walked = [ast.dump(node) for node in ast.walk(loop.iter) if isinstance(node, (ast.Name, ast.Attribute))]
+                for node in found_in(loop, ast.Call):
+                    if called(node, CHANGING) and isinstance(node.func, ast.Attribute):
+                        self.assertNotIn(ast.dump(node.func.value), walked, at(path, node))
+                for node in found_in(loop, ast.Subscript):
+                    if isinstance(node.ctx, ast.Store):
+                        self.assertNotIn(ast.dump(node.value), walked, at(path, node))
+
+    def test_sets_are_not_kept(self):
+        for path in files():
+            whole = tree(path)
+            within = []
+            for node in found_in(whole, ast.Call):
+                within += node.args if called(node, ["len", "sorted"]) else []
+            for node in found_in(whole, ast.Call):
+                if called(node, ["set", "frozenset"]):
+                    self.assertTrue(any(node is other for other in within), at(path, node))
+            self.assertEqual(found_in(whole, ast.Set), [])
 
     def test_errors_taken_by_name(self):
         for path in files():
